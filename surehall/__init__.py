@@ -1,0 +1,1 @@
+"""Surehall: conclusions sealed step by step."""
