@@ -2,6 +2,8 @@
 
 from surehall.errors import Unfit
 
+NO = ("no",)
+
 
 def parts_of(word):
     if word[0] == "var":
@@ -26,6 +28,20 @@ def knots(word):
     for part in parts_of(word):
         total += knots(part)
     return total
+
+
+def deep(word):
+    greatest = 0
+    for part in parts_of(word):
+        greatest = max(greatest, deep(part))
+    return greatest + 1
+
+
+def alls(word):
+    greatest = 0
+    for part in parts_of(word):
+        greatest = max(greatest, alls(part))
+    return depth_within(word, greatest)
 
 
 # Each var is handed to change with its depth, the bound ones too: what becomes of it hangs on both.
@@ -61,6 +77,10 @@ def free_numbers(word, depth):
 
 def stands(form, number):
     return number in free_numbers(form, 0)
+
+
+def closed(form):
+    return free_numbers(form, 0) == []
 
 
 def put(form, term):

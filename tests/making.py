@@ -23,6 +23,10 @@ def cond(x, y):
     return ("if", x, y)
 
 
+def negated(form):
+    return cond(form, NO)
+
+
 def every(form, times=1):
     for _ in range(times):
         form = ("all", form)
@@ -43,6 +47,34 @@ def deep_form(depth, inmost):
     for _ in range(depth - 1):
         form = cond(NO, form)
     return form
+
+
+def wide_term(knots):
+    """A term without vars that has just so many knots and is only a few deep."""
+    if knots < 3:
+        return fun("c") if knots == 1 else fun("f", fun("c"))
+    half = (knots - 1) // 2
+    return fun("g", wide_term(half), wide_term(knots - 1 - half))
+
+
+def wide_form(knots):
+    """A form without vars and `all`s that has just so many knots and is only a few deep."""
+    if knots < 3:
+        return NO if knots == 1 else rel("q", fun("c"))
+    half = (knots - 1) // 2
+    return cond(wide_form(half), wide_form(knots - 1 - half))
+
+
+def numbered(first, behind):
+    """Forms without vars, no two equal: one for each number from first on, below behind."""
+    letters = "abcdefghij"
+    return [rel("n" + "".join(letters[int(figure)] for figure in str(number))) for number in range(first, behind)]
+
+
+def whole(hall):
+    """All that a hall tells."""
+    numbers = range(hall.many())
+    return [hall.many(), hall.axioms()] + [(hall.told(k), hall.bases(k), hall.stood(k)) for k in numbers]
 
 
 def small_terms():

@@ -38,17 +38,33 @@ NAMES_NOT_USED = """
     locals methodcaller os quit setattr super vars sys chr print
 """.split()
 
+ONLY_WALKED = "zip enumerate reversed range items keys values".split()
+WALKERS = "list tuple dict sorted sum any all enumerate zip min max join".split()
+KEYWORDS = {
+    "sorted": ("key", "reverse"), "min": ("key", "default"), "max": ("key", "default"), "sum": ("start",),
+    "enumerate": ("start",), "zip": ("strict",),
+}
+
 
 def files():
     return sorted(path for path in PACKAGE.iterdir() if path.name != "__pycache__")
 
 
+# Parsed once, so that a node met again is known by its identity.
+TREES = [(path.name, ast.parse(path.read_text(encoding="utf-8"))) for path in files()]
+
+
 def trees():
-    return [(path.name, ast.parse(path.read_text(encoding="utf-8"))) for path in files()]
+    return TREES
 
 
 def walked():
     return [(f"{name}:{getattr(node, 'lineno', 0)}", node) for name, tree in trees() for node in ast.walk(tree)]
+
+
+def called(call):
+    """The name or the method that a call calls."""
+    return getattr(call.func, "id", getattr(call.func, "attr", None))
 
 
 def is_text(node):
@@ -181,6 +197,57 @@ class Shapes(unittest.TestCase):
                 sides = [node.left] + node.comparators
                 beside = [side.value for side in sides if isinstance(side, ast.Constant)]
                 self.assertTrue(any(value in (None, True, False) for value in beside), where)
+
+
+class Walks(unittest.TestCase):
+    def test_what_is_only_walked_is_walked_on_the_spot(self):
+        walked_there = []
+        for where, node in walked():
+            if isinstance(node, (ast.For, ast.comprehension)):
+                walked_there.append(node.iter)
+            if isinstance(node, ast.Call) and called(node) in WALKERS and node.args:
+                walked_there.append(node.args[0])
+        there = [id(node) for node in walked_there]
+        for where, node in walked():
+            if isinstance(node, ast.Call) and called(node) in ONLY_WALKED:
+                self.assertIn(id(node), there, where)
+
+    def test_sets_are_not_kept(self):
+        beside = []
+        for where, node in walked():
+            if isinstance(node, ast.Compare):
+                beside.extend([id(side) for side in [node.left] + node.comparators])
+            if isinstance(node, ast.Call) and called(node) in ("sorted", "len"):
+                beside.extend([id(arg) for arg in node.args])
+        for where, node in walked():
+            if isinstance(node, ast.Set) or (isinstance(node, ast.Call) and called(node) in ("set", "frozenset")):
+                self.assertIn(id(node), beside, where)
+
+    def test_keywords_stand_at_the_listed_names_alone(self):
+        for where, node in walked():
+            if isinstance(node, ast.Call) and called(node) in OWN_OF_PYTHON + METHODS_OF_PYTHON:
+                for keyword in node.keywords:
+                    self.assertIn(keyword.arg, KEYWORDS.get(called(node), ()), where)
+
+    def test_methods_of_python_are_called_where_they_stand(self):
+        calls = [id(node.func) for where, node in walked() if isinstance(node, ast.Call)]
+        for where, node in walked():
+            if isinstance(node, ast.Attribute) and node.attr in METHODS_OF_PYTHON:
+                self.assertIn(id(node), calls, where)
+
+    def test_lists_and_dicts_of_a_files_top_are_only_read(self):
+        for name, tree in trees():
+            kept = [node.targets[0].id for node in tree.body
+                    if isinstance(node, ast.Assign) and isinstance(node.value, (ast.List, ast.Dict))]
+            read = []
+            for node in ast.walk(tree):
+                if isinstance(node, ast.Subscript) and isinstance(node.ctx, ast.Load):
+                    read.append(id(node.value))
+                if isinstance(node, ast.Compare):
+                    read.extend([id(side) for side in node.comparators])
+            for node in ast.walk(tree):
+                if isinstance(node, ast.Name) and node.id in kept and isinstance(node.ctx, ast.Load):
+                    self.assertIn(id(node), read, (name, node.lineno))
 
 
 class Names(unittest.TestCase):

@@ -2,8 +2,10 @@ import copy
 import unittest
 
 from surehall.errors import HallError, NoSeal, NoThing, NoWord, TooLarge, Unfit
-from surehall.words import knots, lifted, lowered, put, raised, stands
-from tests.making import NO, cond, deep_form, deep_term, every, fun, rel, same, small_forms, small_terms, var
+from surehall.words import alls, closed, deep, knots, lifted, lowered, put, raised, stands
+from tests.making import (
+    NO, cond, deep_form, deep_term, every, fun, rel, same, small_forms, small_terms, var, wide_form, wide_term,
+)
 
 
 class Knots(unittest.TestCase):
@@ -63,6 +65,50 @@ class Knots(unittest.TestCase):
 
     def test_it_answers_a_whole_number(self):
         self.assertIs(type(knots(NO)), int)
+
+
+    def test_the_makers_of_the_tests_make_what_they_say(self):
+        for count in (1, 2, 3, 4, 5, 149, 150, 299, 300, 301):
+            self.assertEqual(knots(wide_form(count)), count)
+            self.assertEqual(knots(wide_term(count)), count)
+
+
+class Depths(unittest.TestCase):
+    def test_one_deep(self):
+        for word in (var(0), var(999), fun("c"), NO, rel("p")):
+            self.assertEqual(deep(word), 1)
+
+    def test_one_and_the_greatest_depth_of_the_parts(self):
+        self.assertEqual(deep(fun("g", var(0), fun("f", fun("c")))), 3)
+        self.assertEqual(deep(rel("q", fun("f", var(0)), var(1))), 3)
+        self.assertEqual(deep(same(var(0), fun("f", var(0)))), 3)
+        self.assertEqual(deep(same(fun("f", var(0)), var(0))), 3)
+        self.assertEqual(deep(cond(NO, every(rel("p")))), 3)
+        self.assertEqual(deep(cond(every(rel("p")), NO)), 3)
+        self.assertEqual(deep(every(NO, 6)), 7)
+        for depth in (1, 59, 60, 61, 120):
+            self.assertEqual(deep(deep_term(depth, var(0))), depth)
+            self.assertEqual(deep(deep_form(depth, NO)), depth)
+
+    def test_alls_within_one_another(self):
+        self.assertEqual(alls(NO), 0)
+        self.assertEqual(alls(rel("all", fun("all", var(0)))), 0)
+        self.assertEqual(alls(every(NO)), 1)
+        self.assertEqual(alls(every(NO, 7)), 7)
+        self.assertEqual(alls(cond(every(NO, 2), every(NO, 3))), 3)
+        self.assertEqual(alls(cond(every(NO, 3), every(NO, 2))), 3)
+        self.assertEqual(alls(every(cond(NO, every(cond(every(NO), NO))))), 3)
+
+
+class Closed(unittest.TestCase):
+    def test_just_where_no_free_number_stands(self):
+        for form in small_forms():
+            self.assertIs(closed(form), not any(stands(form, number) for number in range(10)))
+
+    def test_great_numbers(self):
+        self.assertIs(closed(rel("q", var(999))), False)
+        self.assertIs(closed(every(rel("q", var(5), var(6)), 6)), False)
+        self.assertIs(closed(every(rel("q", var(5), var(0)), 6)), True)
 
 
 class Stands(unittest.TestCase):

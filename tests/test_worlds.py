@@ -5,11 +5,7 @@ import unittest
 from surehall.errors import HallError, NoSeal, NoThing, NoWord, TooLarge, Unfit
 from surehall.words import lifted, lowered, put, raised, stands
 from surehall.worlds import World
-from tests.making import NO, cond, deep_form, deep_term, every, fun, rel, same, small_forms, small_terms, var
-
-
-def negated(form):
-    return cond(form, NO)
+from tests.making import NO, cond, deep_form, deep_term, every, fun, negated, rel, same, small_forms, small_terms, var
 
 
 def some(form):
